@@ -1,0 +1,1 @@
+"""Spoolhall: a hall of printers, its jobs, its line and its book."""
