@@ -25,17 +25,28 @@ class Stock:
         if name not in self.rooms:
             raise Unknown(name)
 
+    def know_all(self, rows):
+        """Refuses the first name that the stock has not, in a list of (name, many)."""
+        # All names are looked at first: one that is unknown goes ahead of all else, wherever it stands.
+        for row in rows:
+            self.know(row[0])
+
     def put(self, name, many):
         """Puts so many of the name."""
-        if self.held(name) + many > self.room(name):
-            raise TooMuch(name)
-        self.amounts[name] += many
+        self.put_all([(name, many)])
+
+    def put_all(self, gifts):
+        """Puts all or none of a list of (name, many)."""
+        self.know_all(gifts)
+        for name, many in gifts:
+            if self.amounts[name] + many > self.rooms[name]:
+                raise TooMuch(name)
+        for name, many in gifts:
+            self.amounts[name] += many
 
     def draw_all(self, wants):
         """Draws all or none of a list of (name, many)."""
-        # All names are looked at first: one that is unknown goes ahead of one that is dry, wherever it stands.
-        for want in wants:
-            self.know(want[0])
+        self.know_all(wants)
         for name, many in wants:
             if self.amounts[name] < many:
                 raise Dry(name)
