@@ -66,7 +66,9 @@ class Askers(LineTest):
     def test_a_name_comes_once(self):
         line = line_of(("a", "anna", 3))
         for rank, share in ((5, 1), (7, 7)):
-            self.refused_and_unchanged(line, ["a"], Twice, {"name": "anna"}, lambda: line.add_asker("anna", rank, share))
+            self.refused_and_unchanged(
+                line, ["a"], Twice, {"name": "anna"}, lambda: line.add_asker("anna", rank, share)
+            )
         line.take(["a"])
         self.refused_and_unchanged(line, ["a"], Twice, {"name": "anna"}, lambda: line.add_asker("anna", 9, 9))
         self.assertEqual(line.level("anna"), 3 * 2520)

@@ -5,7 +5,7 @@ import unittest
 
 from helping import GREAT, HallTest, full_printer, picture
 
-from spoolhall.errors import Dry, HallError, NotNow, Nowhere, Over, TooMuch, Unknown
+from spoolhall.errors import Dry, NotNow, Nowhere, Over, TooMuch, Unknown
 from spoolhall.heaps import first_lack, gathered
 from spoolhall.jobs import read_job
 from spoolhall.printers import Printer
