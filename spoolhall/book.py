@@ -1,5 +1,11 @@
 """The book: a row for all that printers are given, feed, let out and lose."""
 
+LOAD = "load"
+INK = "ink"
+FEED = "feed"
+OUT = "out"
+LOST = "lost"
+
 
 class Book:
     """Rows, as they were written."""

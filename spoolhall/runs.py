@@ -97,13 +97,18 @@ class Run:
         if self.printer is None:
             raise Nowhere(self.job.name)
 
-    def fed(self, tag):
-        """Feeds the printer with the tag's sheet; tells what came out."""
+    def used_by(self, tag):
+        """What the tag's sheet uses: its kind of paper, black and coloured ink."""
         if tag[1] == SLIP:
-            return self.printer.feed(tag, self.job.paper, 0, 0)
+            return (self.job.paper, 0, 0)
         sheet = tag[1] % self.each()
         ink = self.inks[sheet]
-        return self.printer.feed(tag, paper_of(self.job, sheet), ink[0], ink[1])
+        return (paper_of(self.job, sheet), ink[0], ink[1])
+
+    def fed(self, tag):
+        """Feeds the printer with the tag's sheet; tells what came out."""
+        used = self.used_by(tag)
+        return self.printer.feed(tag, used[0], used[1], used[2])
 
     def emptied(self):
         """Lets all that is within its printer come out; tells it."""

@@ -1,8 +1,9 @@
 """What the shares come to: askers of like rank are passed over within the told bounds (point 24)."""
 
-import itertools
 import random
 import unittest
+
+from helping import ShareTest
 
 from spoolhall.line import Line
 
@@ -41,34 +42,7 @@ class Rows:
             self.line.pull(chance.choice(waiting))
 
 
-class Shares(unittest.TestCase):
-    def look(self, rows):
-        """Both bounds, for each two askers and from each take on."""
-        most = max(rows.costs.values())
-        for first, second in itertools.permutations(rows.shares, 2):
-            for start in range(len(rows.takes)):
-                self.look_side_by_side(rows, first, second, start, most)
-                self.look_passed_over(rows, first, second, start, most)
-
-    def look_side_by_side(self, rows, first, second, start, most):
-        v, w = rows.shares[first], rows.shares[second]
-        p = q = 0
-        for asker, cost, ahead, behind in rows.takes[start:]:
-            if not {first, second} <= ahead or not {first, second} <= behind:
-                return
-            p += cost if asker == first else 0
-            q += cost if asker == second else 0
-            self.assertLessEqual(abs(p * w - q * v), most * (v + w))
-
-    def look_passed_over(self, rows, first, second, start, most):
-        v, w = rows.shares[first], rows.shares[second]
-        spent = 0
-        for asker, cost, ahead, behind in rows.takes[start:]:
-            if first not in ahead or asker == first:
-                return
-            spent += cost if asker == second else 0
-            self.assertLessEqual(spent * v, most * (v + w))
-
+class Shares(ShareTest):
     def test_two_askers_always_waiting(self):
         for v, w in ((1, 1), (1, 2), (1, 10), (3, 7), (9, 10), (10, 1), (6, 4)):
             for costs in ((1, 1), (1, 30), (30, 1), (7, 5)):
